@@ -208,10 +208,22 @@ func (a author) spoilt(text string) string {
 func manyNodes(l []api.Unit) bool {
 	n := 0
 	for _, u := range l {
-		n += 2
-		eachStep(u.Body, func(api.Stmt) bool { n += 2; return true })
+		n += 2 + most(u.Body)
+		eachStep(u.Body, func(s api.Stmt) bool {
+			if s.Kind == api.StUnless { // what d_steps of its second part have is at each node of the first one
+				n += most(s.Body[:1]) * most(s.Body[1:])
+			}
+			return true
+		})
 	}
 	return n > api.MaxNodes
+}
+
+// most is how many nodes statements may have at most, one that is there already among them.
+func most(l []api.Stmt) int {
+	n := 1
+	eachStep(l, func(api.Stmt) bool { n += 2; return true })
+	return n
 }
 
 // agrees holds a text's answers against the rules', and tells the mishap; readable: the text could be read.

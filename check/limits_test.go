@@ -88,6 +88,14 @@ func TestManyNodes(t *testing.T) {
 	right(t, "init { "+steps(api.MaxNodes-4)+"; d_step { d_step { atomic { skip } } } }", "init { "+steps(api.MaxNodes-4)+"; d_step { d_step { L: do :: skip od } } }")
 }
 
+// P5.1: the nodes of d_steps behind an unless count at each node that they are put ahead of
+func TestManyRescuedNodes(t *testing.T) {
+	right(t, "init { { skip; skip } unless { d_step { "+steps(1331)+" } } }", "init { { "+steps(999)+" } unless { d_step { skip }; "+steps(999)+" } }", "init { { skip } unless { if :: d_step { "+steps(999)+" } :: d_step { "+steps(997)+" } fi } }")
+	wrong(t, api.ErrGreat, "init { { skip; skip } unless { d_step { "+steps(1331)+"; $skip } } }", "init { { "+steps(999)+" } unless { d_step { skip }; "+steps(999)+"; $skip } }", "init { { skip } unless { if :: d_step { "+steps(999)+" } :: d_step { "+steps(997)+"; $skip } fi } }")
+	// What isn't the second part's beginning stands there once.
+	right(t, "init { { "+steps(999)+" } unless { skip; d_step { skip }; "+steps(2995)+" } }", "init { { skip; d_step { "+steps(3991)+" } } unless { skip; skip } }")
+}
+
 // P5.1: the first nodes of a process that are too many are told at what was looked at last: a declaration, or the process
 func TestManyNodesBegin(t *testing.T) {
 	full := "proctype P() { " + steps(api.MaxNodes-1) + " } "

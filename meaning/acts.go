@@ -59,7 +59,7 @@ func (m *maker) send(s *api.Stmt) api.Act {
 
 func (m *maker) run(e *api.Ast, to api.Place) api.Act {
 	at, p := m.proctype(e.Name)
-	if m.claim {
+	if m.claiming() {
 		m.fail(api.ErrPlace)
 	}
 	if len(e.Kids) != p.parameters {

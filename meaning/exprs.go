@@ -139,15 +139,14 @@ func (n *names) stands(e *api.Ast) api.Expr {
 
 // word is the kind of an expression that is a word.
 func (n *names) word(name string) int {
-	claim := n.own == nil
 	switch {
 	case name == "timeout":
 		return api.ExTime
 	case name == "_nr_pr":
 		return api.ExCount
-	case name == "_pid" && !claim:
+	case name == "_pid" && !n.claiming():
 		return api.ExPid
-	case name == "np_" && claim:
+	case name == "np_" && n.claiming():
 		return api.ExNp
 	}
 	n.fail(api.ErrPlace)

@@ -43,15 +43,14 @@ type maker struct {
 	marks  marks
 	breaks []int   // where those of the dos lead that are being laid
 	jumps  [][]int // nodes of labels that edges lead to: the first is told by an edge to -1, the next one by -2
-	claim  bool
 	dstep  bool
 }
 
 // graphOf is the graph of a process type, whose last node is an end, or of the claim, which stays there and accepts.
 func (n *names) graphOf(p *process) graph {
-	m := &maker{names: n, marks: p.labels, claim: n.own == nil}
+	m := &maker{names: n, marks: p.labels}
 	m.whole(p.unit.Body, p.unit.At)
-	if m.claim {
+	if m.claiming() {
 		m.nodes[1].Accept = true
 		m.skip(1, 1, 0)
 	} else {
@@ -76,12 +75,17 @@ func (m *maker) whole(l []api.Stmt, at int) {
 	}
 }
 
-// node makes a node.
-func (m *maker) node() int {
-	m.laid++
+// grow counts nodes that the model has more; there may be too many then.
+func (m *maker) grow(more int) {
+	m.laid += more
 	if m.laid > api.MaxNodes {
 		m.fail(api.ErrGreat)
 	}
+}
+
+// node makes a node.
+func (m *maker) node() int {
+	m.grow(1)
 	m.nodes = append(m.nodes, api.Node{Groups: [][]api.Edge{nil}})
 	return len(m.nodes) - 1
 }
@@ -141,7 +145,7 @@ func (m *maker) steps(l []api.Stmt, at, from, to int, free, option bool) {
 func (m *maker) lay(s *api.Stmt, from, to int, free bool) {
 	m.enter()
 	m.at = s.At
-	if m.claim && !claimed(s.Kind) {
+	if m.claiming() && !claimed(s.Kind) {
 		m.fail(api.ErrPlace)
 	}
 	switch s.Kind {
@@ -242,6 +246,16 @@ func (m *maker) unless(s *api.Stmt, from, to int, free bool) {
 	out.begins = m.node()
 	m.lay(&s.Body[1], out.begins, to, false)
 	m.rescues = append(m.rescues, out)
+	m.again(out)
+}
+
+// again counts the nodes of d_steps that a rescue puts ahead of others: the model has them at each of these.
+func (m *maker) again(r rescue) {
+	inner := 0
+	for _, e := range m.nodes[r.begins].Groups[0] {
+		inner += len(e.A.Body)
+	}
+	m.grow(inner * (1 + r.to - r.from))
 }
 
 func (m *maker) label(s *api.Stmt, at, to int) {

@@ -1,4 +1,4 @@
-// Package meaning works programs out: what their names mean, whether they may be, and the graphs of their processes. Package check tells what it comes to.
+// Package meaning works programs out: what their names mean, whether they may be, and the graphs of their processes. Packages check and graph tell what it comes to.
 package meaning
 
 import (
@@ -25,23 +25,10 @@ func (p *Program) Prop(e api.Ast) (api.Expr, api.Errno) {
 	n := p.known
 	n.own, n.looker = nil, looker{left: exprParts}
 	var out api.Expr
-	wrong := caught(func() { out = copied(n.expr(&e)) })
+	c := &copier{left: exprParts}
+	wrong := caught(func() { out = c.expr(n.expr(&e)) })
 	if wrong.Code != api.OK {
 		return api.Expr{}, wrong.Code
 	}
 	return out, api.OK
-}
-
-// copied is an expression that shares no memory: those of a program have the nodes of labels in common.
-func copied(e api.Expr) api.Expr {
-	out := e
-	out.Nodes = append([]int(nil), e.Nodes...)
-	out.Kids, out.Match = nil, nil
-	for _, kid := range e.Kids {
-		out.Kids = append(out.Kids, copied(kid))
-	}
-	for _, match := range e.Match {
-		out.Match = append(out.Match, copied(match))
-	}
-	return out
 }

@@ -25,8 +25,10 @@ type names struct {
 	mtypes []string
 	types  []*row
 	vars   *row
-	procs  []*process // the last one may be the claim
-	own    *process   // whose names hide the model's; nil: nobody's, as in the claim
+	procs  []*process
+	claim  *process // nil: there is none
+	ltl    []api.Named
+	own    *process // whose names hide the model's; nil: nobody's, as in the claim
 	active int
 	laid   int // nodes of all graphs
 }
@@ -39,6 +41,11 @@ type process struct {
 	vars       *row
 	labels     marks
 	graph      graph
+}
+
+// claiming tells whether what is looked at is the claim's, or as if it were.
+func (n *names) claiming() bool {
+	return n.own == nil
 }
 
 // fresh refuses a name that the model has.

@@ -49,6 +49,7 @@ func (n *names) units(l []api.Unit) (claim *api.Unit) {
 		case api.UnitLtl:
 			n.once(formulas[u.Name] > 0)
 			formulas[u.Name]++
+			n.ltl = append(n.ltl, api.Named{Name: u.Name, Text: u.Text})
 		default:
 			n.fail(api.ErrPlace)
 		}
@@ -143,5 +144,5 @@ func (n *names) never(u *api.Unit) {
 	p := begin(u)
 	p.labels = n.labels(u.Body, true)
 	p.graph = n.graphOf(p)
-	n.procs = append(n.procs, p)
+	n.claim = p
 }

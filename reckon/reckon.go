@@ -10,6 +10,19 @@ func Number(n int) int {
 	return int(int32(n))
 }
 
+// Cut is what a type holds of a number; of what is no type: as int.
+func Cut(kind, n int) int {
+	switch kind {
+	case api.TypeBit, api.TypeBool:
+		return n & 1
+	case api.TypeByte, api.TypeMtype, api.TypePid, api.TypeChan:
+		return int(uint8(n))
+	case api.TypeShort:
+		return int(int16(n))
+	}
+	return Number(n)
+}
+
 // One is what an operator of one number makes of it.
 func One(op, a int) int {
 	switch op {

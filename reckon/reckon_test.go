@@ -19,6 +19,23 @@ func TestNumber(t *testing.T) {
 	}
 }
 
+// P6.1 (beginnings), chapter 5's Cut: what each type holds of a number
+func TestCut(t *testing.T) {
+	for kind, cuts := range map[int][][2]int{
+		api.TypeBit: {{0, 0}, {1, 1}, {2, 0}, {-1, 1}, {-2, 0}}, api.TypeBool: {{0, 0}, {1, 1}, {3, 1}, {-4, 0}},
+		api.TypeByte: {{255, 255}, {256, 0}, {300, 44}, {-1, 255}, {-256, 0}}, api.TypeMtype: {{255, 255}, {257, 1}, {-1, 255}}, api.TypePid: {{255, 255}, {256, 0}, {-1, 255}}, api.TypeChan: {{255, 255}, {256, 0}, {-2, 254}},
+		api.TypeShort: {{32767, 32767}, {32768, -32768}, {-32768, -32768}, {-32769, 32767}, {65536, 0}, {-1, -1}},
+		api.TypeInt:   {{most, most}, {most + 1, least}, {least, least}, {least - 1, most}, {-1, -1}, {1 << 32, 0}},
+		0:             {{300, 300}, {most + 1, least}}, 9: {{300, 300}, {-1, -1}}, -1: {{70000, 70000}, {1<<32 + 5, 5}},
+	} {
+		for _, c := range cuts {
+			if got := reckon.Cut(kind, c[0]); got != c[1] {
+				t.Errorf("type %d, %d: %d, %d is right", kind, c[0], got, c[1])
+			}
+		}
+	}
+}
+
 // P5.1 (constants): operators of one
 func TestOne(t *testing.T) {
 	for _, c := range [][3]int{{api.OpNot, 0, 1}, {api.OpNot, 5, 0}, {api.OpNot, -1, 0}, {api.OpTurn, 0, -1}, {api.OpTurn, 5, -6}, {api.OpTurn, least, most}, {api.OpNeg, 5, -5}, {api.OpNeg, -5, 5}, {api.OpNeg, least, least}, {0, 5, 0}, {api.OpLen, 5, 0}} {
