@@ -1,4 +1,4 @@
-package graph
+package judge
 
 import (
 	"sextant/api"
