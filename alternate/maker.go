@@ -5,6 +5,7 @@ import (
 	"slices"
 
 	"sextant/api"
+	"sextant/sets"
 )
 
 // mostMade is how much is made on the way to an automaton: moves put together, and the states that they lead to. It is far more than an automaton that may be needs, if little of it is in vain.
@@ -135,7 +136,7 @@ func (m *maker) both(a, b []api.AltMove) []api.AltMove {
 		}
 		g := api.Guard{Yes: x.G.Yes | y.G.Yes, No: x.G.No | y.G.No}
 		if g.Yes&g.No == 0 {
-			out = m.add(out, api.AltMove{G: g, To: union(x.To, y.To)})
+			m.add(&out, api.AltMove{G: g, To: sets.Union(x.To, y.To)})
 		}
 	}
 	return out
@@ -148,20 +149,7 @@ func (m *maker) either(a, b []api.AltMove) []api.AltMove {
 	}
 	out := slices.Clone(a)
 	for _, y := range b {
-		out = m.add(out, y)
+		m.add(&out, y)
 	}
 	return out
-}
-
-// union is the states of two sets.
-func union(a, b []int) []int {
-	if len(a) == 0 {
-		return b
-	}
-	if len(b) == 0 {
-		return a
-	}
-	out := slices.Concat(a, b)
-	slices.Sort(out)
-	return slices.Compact(out)
 }
