@@ -2,6 +2,7 @@ package alternate
 
 import (
 	"sextant/api"
+	"sextant/guards"
 	"sextant/sets"
 )
 
@@ -20,7 +21,7 @@ func (m *maker) add(list *[]api.AltMove, next api.AltMove) {
 
 // asksLess tells whether a move can be taken wherever another one can, and leads to no other states; if there is no time left, it says no.
 func (m *maker) asksLess(x, y *api.AltMove) bool {
-	if x.G.Yes&^y.G.Yes != 0 || x.G.No&^y.G.No != 0 || len(x.To) > len(y.To) || m.looks < 0 {
+	if !guards.Wider(x.G, y.G) || len(x.To) > len(y.To) || m.looks < 0 {
 		return false
 	}
 	m.looks -= len(y.To)

@@ -5,6 +5,7 @@ import (
 	"slices"
 
 	"sextant/api"
+	"sextant/guards"
 	"sextant/sets"
 )
 
@@ -134,8 +135,7 @@ func (m *maker) both(a, b []api.AltMove) []api.AltMove {
 		if !m.afford(1 + len(x.To) + len(y.To)) {
 			return nil
 		}
-		g := api.Guard{Yes: x.G.Yes | y.G.Yes, No: x.G.No | y.G.No}
-		if g.Yes&g.No == 0 {
+		if g, ok := guards.Both(x.G, y.G); ok {
 			m.add(&out, api.AltMove{G: g, To: sets.Union(x.To, y.To)})
 		}
 	}

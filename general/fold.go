@@ -2,10 +2,10 @@ package general
 
 import (
 	"cmp"
-	"math/bits"
 	"slices"
 
 	"sextant/api"
+	"sextant/guards"
 	"sextant/sets"
 )
 
@@ -87,54 +87,37 @@ func (f *folder) lean(moves []api.GenMove) []api.GenMove {
 	for i, x := range all {
 		all[i].To = f.one(x.To)
 	}
-	slices.SortFunc(all, compareMoves)
-	var out []api.GenMove
-	for begin := 0; begin < len(all); {
-		var list []api.GenMove
-		end := begin
-		for ; end < len(all) && all[end].To == all[begin].To; end++ {
-			f.put(&list, all[end])
-		}
-		slices.SortFunc(list, compareMoves)
-		out = append(out, list...)
-		begin = end
-	}
-	return out
+	together := func(x, y api.GenMove) bool { return x.To == y.To }
+	return sets.Lean(all, compareMoves, together, f.put)
 }
 
 func compareMoves(x, y api.GenMove) int {
-	return cmp.Or(cmp.Compare(x.To, y.To), compareGuards(x.G, y.G), cmp.Compare(x.Sets, y.Sets))
+	return cmp.Or(cmp.Compare(x.To, y.To), guards.Compare(x.G, y.G), cmp.Compare(x.Sets, y.Sets))
 }
 
-// put puts a move into a list of such that lead to the same state. Two that are the same but for one bit, which one asks for and the other one forbids, are one that doesn't ask.
+// put puts a move into a list of such that lead to the same state.
 func (f *folder) put(list *[]api.GenMove, next api.GenMove) {
-	f.looks -= 3 * len(*list)
+	f.looks -= 2 * len(*list)
 	if f.looks < 0 {
 		*list = append(*list, next)
 		return
 	}
-	for i := 0; i < len(*list); i++ {
-		x := (*list)[i]
-		if g, ok := joined(x.G, next.G); ok && x.Sets == next.Sets {
-			*list = slices.Delete(*list, i, i+1)
-			next.G = g
-			f.looks -= len(*list)
-			i = -1
-		}
+	sets.PutJoined(list, next, f.joined, isEnough)
+}
+
+// joined is the move that stands for two which are the same but for one bit of their guards; if there is no time left, it says that there is none.
+func (f *folder) joined(x, y *api.GenMove) (api.GenMove, bool) {
+	f.looks--
+	g, ok := guards.Joined(x.G, y.G)
+	if !ok || x.Sets != y.Sets || f.looks < 0 {
+		return api.GenMove{}, false
 	}
-	sets.PutLeast(list, next, isEnough)
+	return api.GenMove{G: g, To: x.To, Sets: x.Sets}, true
 }
 
 // isEnough tells whether a move can be taken wherever another one can, and is in all sets that that one is in.
 func isEnough(x, y *api.GenMove) bool {
-	return isWider(x.G, y.G) && y.Sets&^x.Sets == 0
-}
-
-// joined is the guard that has the letters of two guards alone, and true, if these are the same but for one bit.
-func joined(x, y api.Guard) (api.Guard, bool) {
-	bit := x.Yes ^ y.Yes
-	both := api.Guard{Yes: x.Yes &^ bit, No: x.No &^ bit}
-	return both, bits.OnesCount64(bit) == 1 && both == api.Guard{Yes: y.Yes &^ bit, No: y.No &^ bit}
+	return guards.Wider(x.G, y.G) && y.Sets&^x.Sets == 0
 }
 
 // movesText is moves as a text, by which maps know them.

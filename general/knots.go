@@ -5,6 +5,7 @@ import (
 	"slices"
 
 	"sextant/api"
+	"sextant/rounds"
 	"sextant/sets"
 )
 
@@ -33,29 +34,22 @@ type grouping struct {
 }
 
 func newGrouping(d draft, looks int) *grouping {
-	s := newSearch(len(d.states), 1, d.next)
-	for n := range d.states {
-		s.round(n)
-	}
-	g := &grouping{draft: d, groups: make([]group, s.closed), looks: looks}
-	for n := range d.states {
-		k := s.knotOf(n)
-		g.numbers = append(g.numbers, k)
-		g.groups[k].states = append(g.groups[k].states, n)
-	}
-	for k := range g.groups {
+	numbers, knots := rounds.Knots(len(d.states), d.next)
+	g := &grouping{draft: d, numbers: numbers, groups: make([]group, len(knots)), looks: looks}
+	for k, states := range knots {
+		g.groups[k].states = states
 		g.look(k)
 		g.count = max(g.count, g.groups[k].needs())
 	}
 	return g
 }
 
-// next is a search's: a step for each arc, in no set, so that a search for a round that is in one goes over all of them.
-func (d *draft) next(node, from int) (step, int) {
+// next is a search's: a step for each arc, in no set.
+func (d *draft) next(node, from int) (rounds.Step, int) {
 	if from == len(d.states[node]) {
-		return step{}, -1
+		return rounds.Step{}, -1
 	}
-	return step{to: d.states[node][from].to}, from + 1
+	return rounds.Step{To: d.states[node][from].to}, from + 1
 }
 
 // look finds out about a group. Those that it leads to must be known.

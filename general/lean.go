@@ -1,7 +1,7 @@
 package general
 
 import (
-	"sextant/api"
+	"sextant/guards"
 	"sextant/sets"
 )
 
@@ -17,7 +17,7 @@ func (m *mover) add(list *[]move, next move) {
 
 // asksLess tells whether a move can be taken wherever another one can, leads to no other states, and is bound to no others; if there is no time left, it says no.
 func (m *mover) asksLess(x, y *move) bool {
-	if !isWider(x.g, y.g) || len(x.to) > len(y.to) || len(x.bound) > len(y.bound) || m.looks < 0 {
+	if !guards.Wider(x.g, y.g) || len(x.to) > len(y.to) || len(x.bound) > len(y.bound) || m.looks < 0 {
 		return false
 	}
 	m.looks -= len(y.to) + len(y.bound)
@@ -31,7 +31,7 @@ func (m *mover) canLeave(n int, x move) bool {
 		if m.looks < 0 {
 			return false
 		}
-		if !isWider(y.g, x.g) {
+		if !guards.Wider(y.g, x.g) {
 			continue
 		}
 		m.looks -= len(x.to)
@@ -40,9 +40,4 @@ func (m *mover) canLeave(n int, x move) bool {
 		}
 	}
 	return false
-}
-
-// isWider tells whether a guard has all letters that another one has.
-func isWider(x, y api.Guard) bool {
-	return x.Yes&^y.Yes == 0 && x.No&^y.No == 0
 }

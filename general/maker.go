@@ -5,6 +5,7 @@ import (
 	"slices"
 
 	"sextant/api"
+	"sextant/guards"
 	"sextant/sets"
 )
 
@@ -89,11 +90,7 @@ func (m *maker) settle() {
 }
 
 func compareArcs(x, y arc) int {
-	return cmp.Or(cmp.Compare(x.to, y.to), compareGuards(x.g, y.g), slices.Compare(x.bound, y.bound))
-}
-
-func compareGuards(x, y api.Guard) int {
-	return cmp.Or(cmp.Compare(x.Yes, y.Yes), cmp.Compare(x.No, y.No))
+	return cmp.Or(cmp.Compare(x.to, y.to), guards.Compare(x.g, y.g), slices.Compare(x.bound, y.bound))
 }
 
 // arcsText is arcs as a text, by which maps know them.

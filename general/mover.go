@@ -4,6 +4,7 @@ import (
 	"slices"
 
 	"sextant/api"
+	"sextant/guards"
 	"sextant/sets"
 )
 
@@ -102,8 +103,7 @@ func (m *mover) both(a, b []move) []move {
 	for _, x := range a {
 		for _, y := range b {
 			cost := 1
-			g := api.Guard{Yes: x.g.Yes | y.g.Yes, No: x.g.No | y.g.No}
-			if g.Yes&g.No == 0 {
+			if g, ok := guards.Both(x.g, y.g); ok {
 				cost = pairCost + len(x.to) + len(y.to)
 				m.add(&out, move{g: g, to: sets.Union(x.to, y.to), bound: sets.Union(x.bound, y.bound)})
 			}

@@ -5,7 +5,9 @@ import (
 	"slices"
 
 	"sextant/api"
+	"sextant/guards"
 	"sextant/lasso"
+	"sextant/rounds"
 )
 
 // beside is an automaton beside a word, as a graph: a node is a place that the lasso tells (the upper bits), and a state (the lower ones).
@@ -22,8 +24,8 @@ func accepts(g api.General, w api.Lasso) bool {
 	}
 	short, _ := lasso.Canon(seen(g, w))
 	b := &beside{states: g.States, letters: slices.Concat(short.Prefix, short.Loop), back: len(short.Prefix), width: bits.Len(uint(len(g.States) - 1))}
-	s := newSearch(len(b.letters)<<b.width, 1<<g.Sets-1, b.next)
-	return slices.ContainsFunc(g.Init, s.round)
+	s := rounds.New(len(b.letters)<<b.width, 1<<g.Sets-1, b.next)
+	return slices.ContainsFunc(g.Init, s.Round)
 }
 
 // seen is a word as an automaton sees it: without the bits that no guard asks for, so that it may have a shorter lasso.
@@ -45,17 +47,17 @@ func seen(g api.General, w api.Lasso) api.Lasso {
 }
 
 // next is the first step of a node from one of its state's moves on.
-func (b *beside) next(node, from int) (step, int) {
+func (b *beside) next(node, from int) (rounds.Step, int) {
 	place := node >> b.width
 	moves := b.states[node-place<<b.width]
 	letter := b.letters[place]
 	for i := from; i < len(moves); i++ {
 		m := &moves[i]
-		if letter&m.G.Yes == m.G.Yes && letter&m.G.No == 0 {
-			return step{to: b.behind(place)<<b.width | m.To, sets: m.Sets}, i + 1
+		if guards.Has(m.G, letter) {
+			return rounds.Step{To: b.behind(place)<<b.width | m.To, Sets: m.Sets}, i + 1
 		}
 	}
-	return step{}, -1
+	return rounds.Step{}, -1
 }
 
 // behind is the place that comes behind one.

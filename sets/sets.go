@@ -1,6 +1,8 @@
 // Package sets is sets of numbers, as lists of them, rising and unlike: what the automata's packages ask of them.
 package sets
 
+import "slices"
+
 // Union is the numbers of two sets.
 func Union(a, b []int) []int {
 	if len(a)+len(b) == 0 {
@@ -59,4 +61,35 @@ func PutLeast[T any](list *[]T, next T, less func(x, y *T) bool) {
 		kept++
 	}
 	*list = append(all[:kept], next)
+}
+
+// PutJoined puts an element into a list as PutLeast does, but ahead of that makes one of it and elements of the list, as long as join can.
+func PutJoined[T any](list *[]T, next T, join func(x, y *T) (T, bool), less func(x, y *T) bool) {
+	for i := 0; i < len(*list); i++ {
+		one, ok := join(&(*list)[i], &next)
+		if !ok {
+			continue
+		}
+		*list = append((*list)[:i], (*list)[i+1:]...)
+		next = one
+		i = -1
+	}
+	PutLeast(list, next, less)
+}
+
+// Lean are the elements of a list, in order, without needless ones: those that stand together are put into one list after the other, by a function that may leave some out. The list that is handed in is put in order, too.
+func Lean[T any](all []T, compare func(x, y T) int, together func(x, y T) bool, put func(list *[]T, next T)) []T {
+	slices.SortFunc(all, compare)
+	var out []T
+	for begin := 0; begin < len(all); {
+		var list []T
+		end := begin
+		for ; end < len(all) && together(all[begin], all[end]); end++ {
+			put(&list, all[end])
+		}
+		slices.SortFunc(list, compare)
+		out = append(out, list...)
+		begin = end
+	}
+	return out
 }

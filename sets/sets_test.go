@@ -92,3 +92,75 @@ func TestPutLeast(t *testing.T) {
 		}
 	}
 }
+
+// PutJoined makes one of elements as long as it can: here of bits that stand side by side, as numbers from one to another
+func TestPutJoined(t *testing.T) {
+	type span struct{ from, to int }
+	join := func(x, y *span) (span, bool) {
+		switch {
+		case x.to == y.from:
+			return span{x.from, y.to}, true
+		case y.to == x.from:
+			return span{y.from, x.to}, true
+		}
+		return span{}, false
+	}
+	less := func(x, y *span) bool { return x.from <= y.from && y.to <= x.to }
+	for seed := range 5000 {
+		r := rand.New(rand.NewSource(int64(seed)))
+		var list []span
+		var has [12]bool
+		for range r.Intn(14) {
+			n := r.Intn(len(has))
+			has[n] = true
+			sets.PutJoined(&list, span{n, n + 1}, join, less)
+		}
+		slices.SortFunc(list, func(x, y span) int { return x.from - y.from })
+		var want []span
+		for n, is := range has {
+			if is && (n == 0 || !has[n-1]) {
+				want = append(want, span{from: n})
+			}
+			if is {
+				want[len(want)-1].to = n + 1
+			}
+		}
+		if !slices.Equal(list, want) {
+			t.Fatalf("%v: %v, wanted %v", has, list, want)
+		}
+	}
+}
+
+// Lean puts those that stand together into a list of their own, and all in order
+func TestLean(t *testing.T) {
+	for seed := range 3000 {
+		r := rand.New(rand.NewSource(int64(seed)))
+		var all []int
+		for range r.Intn(12) {
+			all = append(all, r.Intn(40))
+		}
+		var most [4]int
+		for i := range most {
+			most[i] = -1
+		}
+		for _, n := range all {
+			most[n/10] = max(most[n/10], n)
+		}
+		var want []int
+		for _, n := range most {
+			if n >= 0 {
+				want = append(want, n)
+			}
+		}
+		together := func(x, y int) bool { return x/10 == y/10 }
+		greatest := func(list *[]int, next int) {
+			if len(*list) > 0 && !together((*list)[0], next) {
+				t.Fatalf("%v beside %d", *list, next)
+			}
+			sets.PutLeast(list, next, func(x, y *int) bool { return *x >= *y })
+		}
+		if got := sets.Lean(all, func(x, y int) int { return x - y }, together, greatest); !slices.Equal(got, want) {
+			t.Fatalf("%v: %v, wanted %v", all, got, want)
+		}
+	}
+}
