@@ -19,11 +19,11 @@ func newDraft(b api.Auto, looks int) *draft {
 	return &draft{leaner: leaner{looks: looks}, states: slices.Clone(b.States)}
 }
 
-// onRounds tells of each state whether it lies on a round of such states alone.
+// onRounds tells of each state whether it lies on a round of such states alone. Only steps to such states are gone, so that others are come to by none.
 func onRounds(states []api.AutoState, such func(n int) bool) []bool {
 	numbers, _ := rounds.Knots(len(states), func(node, from int) (rounds.Step, int) {
 		for i := from; i < len(states[node].Moves); i++ {
-			if to := states[node].Moves[i].To; such(node) && such(to) {
+			if to := states[node].Moves[i].To; such(to) {
 				return rounds.Step{To: to}, i + 1
 			}
 		}
@@ -31,7 +31,7 @@ func onRounds(states []api.AutoState, such func(n int) bool) []bool {
 	})
 	out := make([]bool, len(states))
 	for n, s := range states {
-		out[n] = such(n) && slices.ContainsFunc(s.Moves, func(m api.AutoMove) bool {
+		out[n] = slices.ContainsFunc(s.Moves, func(m api.AutoMove) bool {
 			return such(m.To) && numbers[m.To] == numbers[n]
 		})
 	}

@@ -14,10 +14,17 @@ const foldCost = 64
 // itself stands for the state whose move leads to it.
 const itself = -1
 
+// What a state is, beside its moves: it lies on no round, on one without being Accept, or on one and is Accept.
+const (
+	comesOnce = iota
+	comesAgain
+	comesGood
+)
+
 // twin is what states that can be made one have in common.
 type twin struct {
-	accept bool
-	moves  string
+	kind  int
+	moves string
 }
 
 // folder makes states one that have the same moves.
@@ -48,29 +55,33 @@ func (d *draft) fold() bool {
 	return found
 }
 
-// find tells whether a state has been made one with another one; if it hasn't, that is known by what it does from now on. Whether a state that lies on no round is Accept doesn't matter, as it is come to once: if it is made one with one that lies on a round, it is what that one is.
+// find tells whether a state has been made one with another one; if it hasn't, that is known by what it does from now on.
 func (f *folder) find(n int) bool {
-	s := f.draft.states[n]
-	keys := [...]twin{{s.Accept, f.text(s.Moves)}, {s.Accept, f.text(turned(s.Moves, n))}}
-	if !f.round[n] {
-		keys[1].accept = !s.Accept
-	}
-	for _, key := range keys {
-		known, ok := f.states[key]
-		if !ok {
-			continue
+	own, others := f.keys(n)
+	for _, key := range slices.Concat(own, others) {
+		if known, ok := f.states[key]; ok {
+			f.same[n] = known
+			return true
 		}
-		f.same[n] = known
-		if f.round[n] && !f.round[known] {
-			f.round[known], f.draft.states[known].Accept = true, s.Accept
-			delete(f.states, twin{!s.Accept, key.moves})
-		}
-		return true
 	}
-	for _, key := range keys {
+	for _, key := range own {
 		f.states[key] = n
 	}
 	return false
+}
+
+// keys are those by which a state is known, and those of others that it can be made one with. One that lies on no round is come to once, so that it may become one that is Accept as well as one that isn't.
+func (f *folder) keys(n int) ([]twin, []twin) {
+	s := f.draft.states[n]
+	text := f.text(s.Moves)
+	if !f.round[n] {
+		return []twin{{comesOnce, text}}, []twin{{comesAgain, text}, {comesGood, text}}
+	}
+	kind := comesAgain
+	if s.Accept {
+		kind = comesGood
+	}
+	return []twin{{kind, text}, {kind, f.text(turned(s.Moves, n))}}, nil
 }
 
 // turned are a state's moves such that those of another one are the same, if they lead to that one itself where these lead to this one itself.

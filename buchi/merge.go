@@ -14,7 +14,7 @@ func (d *draft) merge(a *above) bool {
 	found := false
 	for n := range same {
 		for k := range n {
-			if same[k] == k && a.has(n, k) && a.has(k, n) {
+			if a.has(n, k) && a.has(k, n) {
 				same[n] = k
 				found = true
 				break
@@ -49,9 +49,9 @@ func asksLess(x, y api.AutoMove) int {
 	return bits.OnesCount64(x.G.Yes|x.G.No) - bits.OnesCount64(y.G.Yes|y.G.No)
 }
 
-// narrow takes the letters from moves for which there is one of the same state to one that can stand in for theirs, so that runs have less to choose from. No two states can stand in for each other any more.
+// narrow takes the letters from moves for which there is another one of the same state, to theirs or to one that can stand in for it, so that runs have less to choose from.
 func (d *draft) narrow(a *above) {
-	better := func(x, y *api.AutoMove) bool { return x.To != y.To && a.has(y.To, x.To) }
+	better := func(x, y *api.AutoMove) bool { return a.has(y.To, x.To) }
 	for _, s := range d.states {
 		guards.Narrow(s.Moves, func(m *api.AutoMove) *api.Guard { return &m.G }, better, &d.looks)
 	}

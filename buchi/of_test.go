@@ -37,6 +37,25 @@ func TestOf(t *testing.T) {
 	}
 }
 
+// P13.5: of moves that nothing is lost by leaving none is left: there is nothing to choose
+func TestOfChoice(t *testing.T) {
+	for _, text := range []string{"[] <> p", "[] <> p && [] <> q", "[] <> p && [] <> q && [] <> r", "[] (p -> <> q)", "p U q", "p V q", "[] p", "<> p", "p -> [] q"} {
+		for n, s := range of(t, read(t, text), threeNames).States {
+			for letter := range uint64(8) {
+				count := 0
+				for _, m := range s.Moves {
+					if m.G.Yes&^letter == 0 && m.G.No&letter == 0 {
+						count++
+					}
+				}
+				if count > 1 {
+					t.Errorf("%s: state %d, %d moves with %d", text, n, count, letter)
+				}
+			}
+		}
+	}
+}
+
 // P13.5: the errors of alternate.Of, in its order, with nothing beside them
 func TestOfErrors(t *testing.T) {
 	many := numbered(61)

@@ -18,6 +18,8 @@ func TestSimplify(t *testing.T) {
 		{auto(plain()), 1, 0}, {auto(good()), 1, 0}, {auto(plain(always(0))), 1, 0}, {auto(good(always(0))), 1, 1},
 		// states that runs don't come to; such as nothing is accepted from: without moves, in rounds without Accept, with Accept and no round
 		{auto(good(always(0)), good(always(1)), plain(always(0))), 1, 1}, {auto(good(always(0), move(1, 0, 1), move(2, 0, 2), move(3, 0, 3)), plain(), plain(always(2)), good(always(2))), 1, 1}, {auto(plain(always(1)), plain(always(2)), plain(always(3)), good()), 1, 0}, {auto(plain(always(1)), good(always(2)), plain(always(2))), 1, 0}, {auto(good(always(1)), good(always(2)), plain(always(3)), plain(always(2))), 1, 0},
+		// such as can do what others can't, but are of no use
+		{auto(good(move(1, 0, 0), move(2, 0, 1)), plain(always(1))), 1, 1}, {auto(good(move(1, 0, 0), move(2, 0, 1)), good(always(2)), plain(move(1, 0, 3)), plain(always(2))), 1, 1},
 		// moves that are there twice, that another one stands in for, that are one but for a bit
 		{auto(good(move(1, 0, 0), move(1, 0, 0))), 1, 1}, {auto(good(move(1, 0, 0), move(1, 2, 0), move(3, 0, 0))), 1, 1}, {auto(good(move(1, 2, 0), move(3, 0, 0))), 1, 1}, {auto(good(move(3, 0, 0), move(1, 2, 0), move(2, 1, 0), move(0, 3, 0))), 1, 1}, {auto(good(move(1, 0, 0), move(2, 1, 0))), 1, 2}, {auto(good(move(1, 0, 0), move(2, 0, 0), move(0, 3, 0))), 1, 3},
 		// states with the same moves: one behind the other, side by side, in rounds, or beside a round

@@ -28,9 +28,7 @@ func newWalk(b api.Auto, begin int) *walk {
 				continue
 			}
 			w.visits[m.To] = visit{from: from, letter: m.G.Yes}
-			if m.To != begin {
-				w.row = append(w.row, m.To)
-			}
+			w.row = append(w.row, m.To)
 		}
 	}
 	return w

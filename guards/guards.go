@@ -46,17 +46,18 @@ func Without(x, y api.Guard) (api.Guard, bool) {
 	return api.Guard{Yes: x.Yes | no, No: x.No | yes}, true
 }
 
-// Narrow takes from elements the letters that a better one has, too, where what is left is a guard's. No element is better than another one that is better than it. It takes from looks what it looks at; if there are none left, it takes no more letters.
+// Narrow takes from elements the letters that another one has, too, which is as good or better, where what is left is a guard's. That one still has them then, so that no letter is lost. Once some have been taken, what others leave may be a guard's, so that all are tried again. It takes from looks what it looks at; if there are none left, it takes no more letters.
 func Narrow[T any](list []T, guard func(x *T) *api.Guard, better func(x, y *T) bool, looks *int) {
 	for i := range list {
 		own := guard(&list[i])
-		for k := range list {
+		for k := 0; k < len(list); k++ {
 			*looks--
 			if *looks < 0 {
 				return
 			}
 			if less, ok := Without(*own, *guard(&list[k])); ok && better(&list[k], &list[i]) {
 				*own = less
+				k = -1
 			}
 		}
 	}

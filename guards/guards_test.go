@@ -139,14 +139,23 @@ func TestCoverFine(t *testing.T) {
 	}
 }
 
-// Narrow takes letters only where a better element has them; between them the elements have the same letters
+// Narrow takes letters only where an element that is as good still has them: of each letter the best element stays
 func TestNarrow(t *testing.T) {
 	type item struct {
 		g    api.Guard
 		rank int
 	}
 	guard := func(x *item) *api.Guard { return &x.g }
-	better := func(x, y *item) bool { return x.rank > y.rank }
+	better := func(x, y *item) bool { return x.rank >= y.rank }
+	best := func(list []item, letter uint64) int {
+		out := -1
+		for _, x := range list {
+			if guards.Has(x.g, letter) {
+				out = max(out, x.rank)
+			}
+		}
+		return out
+	}
 	taken := 0
 	for seed := range 20000 {
 		r := rand.New(rand.NewSource(int64(seed)))
@@ -161,24 +170,26 @@ func TestNarrow(t *testing.T) {
 		}
 		guards.Narrow(list, guard, better, &looks)
 		for letter := range uint64(8) {
-			best := -1
-			for _, x := range old {
-				if guards.Has(x.g, letter) {
-					best = max(best, x.rank)
-				}
+			if best(list, letter) != best(old, letter) {
+				t.Fatalf("%v: %v", old, list)
 			}
-			for i, x := range list {
-				was, is := guards.Has(old[i].g, letter), guards.Has(x.g, letter)
-				if is && !was || was && !is && x.rank == best {
-					t.Fatalf("%v: %v", old, list)
-				}
-				if was && !is {
-					taken++
-				}
+		}
+		for i, x := range list {
+			if !guards.Wider(old[i].g, x.g) || x.rank != old[i].rank {
+				t.Fatalf("%v: %v", old, list)
+			}
+			if x != old[i] {
+				taken++
 			}
 		}
 	}
 	if taken < 1000 {
 		t.Error(taken)
+	}
+	two := []item{{api.Guard{No: 1}, 1}, {api.Guard{Yes: 2}, 0}, {api.Guard{Yes: 4}, 2}}
+	looks := 100
+	guards.Narrow(two, guard, better, &looks)
+	if want := []item{{api.Guard{No: 5}, 1}, {api.Guard{Yes: 3, No: 4}, 0}, {api.Guard{Yes: 4}, 2}}; !slices.Equal(two, want) {
+		t.Error(two)
 	}
 }
