@@ -1,0 +1,54 @@
+package product
+
+import (
+	"slices"
+
+	"sextant/api"
+)
+
+// telling is a pair whose system tells what its processes may do.
+type telling struct {
+	*pair
+	more api.Static
+}
+
+// tellingAll is a pair that tells no less than its system.
+func tellingAll(p *pair) api.System {
+	if more, ok := p.s.(api.Static); ok {
+		return &telling{pair: p, more: more}
+	}
+	return p
+}
+
+// Live is the processes of a state.
+func (t *telling) Live(state string) []int {
+	_, x, ok := t.split(state)
+	if !ok {
+		return nil
+	}
+	return slices.Clone(t.more.Live(x))
+}
+
+// Ever is what a process may do from a state on.
+func (t *telling) Ever(state string, proc int) api.Foot {
+	_, x, ok := t.split(state)
+	if !ok {
+		return api.Foot{}
+	}
+	return own(t.more.Ever(x, proc))
+}
+
+// Here is what the ways of a process from where it stands may do, taken or not.
+func (t *telling) Here(state string, proc int) api.Foot {
+	_, x, ok := t.split(state)
+	if !ok {
+		return api.Foot{}
+	}
+	return own(t.more.Here(x, proc))
+}
+
+// own is a foot with lists of its own, whoever else has those that it had.
+func own(f api.Foot) api.Foot {
+	f.Reads, f.Writes = slices.Clone(f.Reads), slices.Clone(f.Writes)
+	return f
+}
