@@ -5,12 +5,9 @@ import (
 	"slices"
 
 	"sextant/api"
-	"sextant/codec"
 	"sextant/guards"
+	"sextant/numbered"
 )
-
-// mostBytes is how many bytes an automaton's state has at most: MaxAuto is below 2^14.
-const mostBytes = 2
 
 // pair is a system beside an automaton.
 type pair struct {
@@ -23,20 +20,14 @@ func pairOf(s api.System, b api.Auto) *pair {
 	p := &pair{s: s, states: slices.Clone(b.States)}
 	for q := range p.states {
 		p.states[q].Moves = slices.Clone(p.states[q].Moves)
-		p.bytes = append(p.bytes, bytesOf(q))
+		p.bytes = append(p.bytes, numbered.Bytes(q))
 	}
 	return p
 }
 
-func bytesOf(q int) string {
-	b := codec.New(mostBytes)
-	b.Uint(uint64(q))
-	return b.String()
-}
-
 // split is the automaton's state and the system's bytes; not ok: the automaton has no such state.
 func (p *pair) split(state string) (*api.AutoState, string, bool) {
-	q, x, ok := parts(state)
+	q, x, ok := numbered.Split(state)
 	if !ok || q >= uint64(len(p.states)) {
 		return nil, "", false
 	}
@@ -83,22 +74,14 @@ func (p *pair) behind(q *api.AutoState, letter uint64) []string {
 // beside hands on a system's move, once for each of the automaton's states to which it may lead; not true: nobody wants more. A move that fails leads to none: it is to be seen whatever the automaton does.
 func beside(m api.Move, to []string, yield func(api.Move) bool) bool {
 	if m.Bad != api.BadNone {
-		return yield(alone(m))
+		return yield(numbered.Move(m, ""))
 	}
 	for _, q := range to {
-		next := alone(m)
-		next.To = q + m.To
-		if !yield(next) {
+		if !yield(numbered.Move(m, q)) {
 			return false
 		}
 	}
 	return true
-}
-
-// alone is a move with lists of its own: several moves come of one.
-func alone(m api.Move) api.Move {
-	m.Reads, m.Writes = slices.Clone(m.Reads), slices.Clone(m.Writes)
-	return m
 }
 
 // Look is what is seen of a state.

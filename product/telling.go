@@ -4,6 +4,7 @@ import (
 	"slices"
 
 	"sextant/api"
+	"sextant/numbered"
 )
 
 // telling is a pair whose system tells what its processes may do.
@@ -35,7 +36,7 @@ func (t *telling) Ever(state string, proc int) api.Foot {
 	if !ok {
 		return api.Foot{}
 	}
-	return own(t.more.Ever(x, proc))
+	return numbered.Foot(t.more.Ever(x, proc))
 }
 
 // Here is what the ways of a process from where it stands may do, taken or not.
@@ -44,11 +45,5 @@ func (t *telling) Here(state string, proc int) api.Foot {
 	if !ok {
 		return api.Foot{}
 	}
-	return own(t.more.Here(x, proc))
-}
-
-// own is a foot with lists of its own, whoever else has those that it had.
-func own(f api.Foot) api.Foot {
-	f.Reads, f.Writes = slices.Clone(f.Reads), slices.Clone(f.Writes)
-	return f
+	return numbered.Foot(t.more.Here(x, proc))
 }
