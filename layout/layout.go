@@ -101,6 +101,15 @@ func (r *row) lay(s *api.State) []int {
 	return vars
 }
 
+// Chans are the channels that the model and these processes have, by their numbers, without messages; the types are ones that there are.
+func (l *Layout) Chans(procs []api.Process) []api.Chan {
+	var out []api.Chan
+	for _, c := range l.channels(procs) {
+		out = append(out, c.empty)
+	}
+	return out
+}
+
 // channels are those that the model and these processes have, by their numbers; the types are ones that there are.
 func (l *Layout) channels(procs []api.Process) []*channel {
 	all := l.model.each(nil)

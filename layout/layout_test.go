@@ -52,6 +52,34 @@ func TestStart(t *testing.T) {
 	}
 }
 
+// The words of chapter 7: which channels there must be, by their numbers; they are empty, and those of each answer its own
+func TestChans(t *testing.T) {
+	m := two()
+	l := layout.Of(&m)
+	s, _ := l.Begin()
+	s.Chans[1].Queue = [][]int{{1}}
+	own, row := api.Chan{Proc: -1, Slot: 1}, []api.Chan{{Proc: 1, Slot: 4}, {Proc: 1, Slot: 4, Elem: 1}}
+	for _, c := range []struct {
+		procs []api.Process
+		want  []api.Chan
+	}{
+		{nil, []api.Chan{own}},
+		{[]api.Process{{}}, []api.Chan{own}},
+		{s.Procs, []api.Chan{own, row[0], row[1]}},
+		{[]api.Process{{Type: 1}, {}, {Type: 1}}, []api.Chan{own, row[0], row[1], row[0], row[1]}},
+	} {
+		for range 2 {
+			got := l.Chans(c.procs)
+			if fmt.Sprint(got) != fmt.Sprint(c.want) {
+				t.Errorf("%v; %v is right", got, c.want)
+			}
+			for i := range got {
+				got[i].Slot, got[i].Queue = 9, [][]int{{9}}
+			}
+		}
+	}
+}
+
 // R3: a layout keeps nothing of the model that it was made of
 func TestKeepsNothing(t *testing.T) {
 	m := two()
